@@ -1,0 +1,113 @@
+// Package grove: trees that change, lists and walks in them: see DOC.md.
+package grove
+
+import (
+	"grove/api"
+	"grove/tree"
+)
+
+// Grove is nodes, and what looks at them.
+type Grove struct {
+	forest tree.Forest
+}
+
+// New makes an empty grove (P3).
+func New() *Grove { return &Grove{forest: tree.NewForest()} }
+
+// Make makes a node (P3).
+func (g *Grove) Make(kind int, text string) (int, api.Errno) {
+	k, err := tree.NewKind(kind, text)
+	if err != api.OK {
+		return 0, err
+	}
+	if g.forest.Count() >= api.MaxNodes {
+		return 0, api.ErrFull
+	}
+	return g.forest.Add(k), api.OK
+}
+
+// Put puts a node under another one (P4).
+func (g *Grove) Put(parent int, child int, before int) api.Errno {
+	if err := g.mayPut(parent, child, before); err != api.OK {
+		return err
+	}
+	if before == child {
+		// Child is about to leave its place, so it can't mark one.
+		before = g.forest.Behind(child)
+	}
+	if g.forest.Parent(child) != 0 {
+		g.forest.Remove(child)
+	}
+	g.forest.Insert(parent, child, before)
+	return api.OK
+}
+
+// Take takes a node out of where it stands (P4).
+func (g *Grove) Take(node int) api.Errno {
+	if !g.forest.Has(node) {
+		return api.ErrNode
+	}
+	if g.forest.Parent(node) == 0 {
+		return api.ErrLoose
+	}
+	g.forest.Remove(node)
+	return api.OK
+}
+
+// Kids tells what stands under a node (P5).
+func (g *Grove) Kids(node int) ([]int, api.Errno) {
+	if !g.forest.Has(node) {
+		return nil, api.ErrNode
+	}
+	return g.forest.Kids(node), api.OK
+}
+
+// Parent tells under what a node stands (P5).
+func (g *Grove) Parent(node int) (int, api.Errno) {
+	if !g.forest.Has(node) {
+		return 0, api.ErrNode
+	}
+	return g.forest.Parent(node), api.OK
+}
+
+// Set gives an element an attribute (P6).
+func (g *Grove) Set(node int, name string, value string) api.Errno { return api.OK }
+
+// Unset takes one away (P6).
+func (g *Grove) Unset(node int, name string) api.Errno { return api.OK }
+
+// ById tells the first element with an id (P6).
+func (g *Grove) ById(root int, id string) (int, api.Errno) { return 0, api.OK }
+
+// Watch makes a live list (P7).
+func (g *Grove) Watch(root int, how int, what string) (int, api.Errno) { return 0, api.OK }
+
+// Len tells how many nodes a list has (P7).
+func (g *Grove) Len(list int) (int, api.Errno) { return 0, api.OK }
+
+// Item tells a node of a list (P7).
+func (g *Grove) Item(list int, i int) (int, api.Errno) { return 0, api.OK }
+
+// Named tells the first node of a list that has a name (P7).
+func (g *Grove) Named(list int, name string) (int, api.Errno) { return 0, api.OK }
+
+// Iter makes an iterator (P8).
+func (g *Grove) Iter(root int, show int, rules []api.Rule) (int, api.Errno) { return 0, api.OK }
+
+// Step steps an iterator (P8).
+func (g *Grove) Step(iter int, back bool) (int, api.Errno) { return 0, api.OK }
+
+// At tells where an iterator is (P8).
+func (g *Grove) At(iter int) (int, bool, api.Errno) { return 0, false, api.OK }
+
+// Walker makes a walker (P9).
+func (g *Grove) Walker(root int, show int, rules []api.Rule) (int, api.Errno) { return 0, api.OK }
+
+// Move moves a walker (P9).
+func (g *Grove) Move(walker int, how int) (int, api.Errno) { return 0, api.OK }
+
+// Here tells where a walker is (P9).
+func (g *Grove) Here(walker int) (int, api.Errno) { return 0, api.OK }
+
+// Go sets a walker somewhere (P9).
+func (g *Grove) Go(walker int, node int) api.Errno { return api.OK }

@@ -1,0 +1,88 @@
+package grove_test
+
+import (
+	"fmt"
+	"slices"
+	"strings"
+	"testing"
+
+	"grove/api"
+	"grove/grove"
+)
+
+// plant makes a grove of loose nodes, their numbers from 1 on: "/" a root,
+// "#" a text, "!" a note, any other word an element of that tag.
+func plant(t *testing.T, words string) *grove.Grove {
+	t.Helper()
+	g := grove.New()
+	for i, w := range strings.Fields(words) {
+		if n, err := g.Make(kindOf(w), w); n != i+1 || err != api.OK {
+			t.Fatalf("Make(%d, %q) = %d, %d, want %d, OK", kindOf(w), w, n, err, i+1)
+		}
+	}
+	return g
+}
+
+func kindOf(word string) int {
+	switch word {
+	case "/":
+		return api.Root
+	case "#":
+		return api.Text
+	case "!":
+		return api.Note
+	}
+	return api.Element
+}
+
+// under puts kids under a parent, one behind the other.
+func under(t *testing.T, g *grove.Grove, parent int, kids ...int) {
+	t.Helper()
+	for _, k := range kids {
+		wantPut(t, g, parent, k, 0, api.OK)
+	}
+}
+
+func wantPut(t *testing.T, g *grove.Grove, parent, child, before int, want api.Errno) {
+	t.Helper()
+	if err := g.Put(parent, child, before); err != want {
+		t.Errorf("Put(%d, %d, %d) = %d, want %d", parent, child, before, err, want)
+	}
+}
+
+func wantTake(t *testing.T, g *grove.Grove, node int, want api.Errno) {
+	t.Helper()
+	if err := g.Take(node); err != want {
+		t.Errorf("Take(%d) = %d, want %d", node, err, want)
+	}
+}
+
+func wantKids(t *testing.T, g *grove.Grove, node int, want ...int) {
+	t.Helper()
+	if kids, err := g.Kids(node); !slices.Equal(kids, want) || err != api.OK {
+		t.Errorf("Kids(%d) = %v, %d, want %v, OK", node, kids, err, want)
+	}
+	for _, k := range want {
+		wantParent(t, g, k, node)
+	}
+}
+
+func wantParent(t *testing.T, g *grove.Grove, node, want int) {
+	t.Helper()
+	if p, err := g.Parent(node); p != want || err != api.OK {
+		t.Errorf("Parent(%d) = %d, %d, want %d, OK", node, p, err, want)
+	}
+}
+
+// shape tells all that can be seen of the trees, and how many nodes there are.
+func shape(g *grove.Grove) string {
+	var b strings.Builder
+	for n := 0; ; n++ {
+		kids, err := g.Kids(n)
+		p, perr := g.Parent(n)
+		fmt.Fprintln(&b, n, kids, err, p, perr)
+		if n > 0 && err != api.OK {
+			return b.String()
+		}
+	}
+}

@@ -1,0 +1,104 @@
+package tree
+
+// place is where a node stands, by its neighbours' numbers; 0 where there is
+// none. Kids are chained, so that none is looked for when one comes or goes.
+type place struct {
+	parent int
+	ahead  int
+	behind int
+	first  int
+	last   int
+}
+
+type node struct {
+	place
+	kind Kind
+}
+
+// Forest is nodes with numbers from 1 on. But for Has, its methods take only
+// numbers of nodes that it has; and 0 only where they say so.
+type Forest struct {
+	nodes []node
+}
+
+// NewForest is a forest without nodes.
+func NewForest() Forest {
+	// The number 0 stands for no node: its entry is there only so that
+	// numbers and indices are the same.
+	return Forest{nodes: make([]node, 1)}
+}
+
+// Has tells whether there is a node of this number.
+func (f *Forest) Has(n int) bool { return n >= 1 && n < len(f.nodes) }
+
+// Count tells how many nodes there are.
+func (f *Forest) Count() int { return len(f.nodes) - 1 }
+
+// Add makes a node which stands nowhere, and tells its number.
+func (f *Forest) Add(k Kind) int {
+	f.nodes = append(f.nodes, node{kind: k})
+	return f.Count()
+}
+
+// Kind tells what a node is.
+func (f *Forest) Kind(n int) Kind { return f.nodes[n].kind }
+
+// Parent tells under what a node stands, 0 if under nothing.
+func (f *Forest) Parent(n int) int { return f.nodes[n].parent }
+
+// First tells a node's first kid, 0 if it has none.
+func (f *Forest) First(n int) int { return f.nodes[n].first }
+
+// Behind tells the kid directly behind this one, 0 if there is none.
+func (f *Forest) Behind(n int) int { return f.nodes[n].behind }
+
+// Kids is a new list of a node's kids.
+func (f *Forest) Kids(n int) []int {
+	var kids []int
+	for k := f.First(n); k != 0; k = f.Behind(k) {
+		kids = append(kids, k)
+	}
+	return kids
+}
+
+// Within tells whether n is top itself or stands somewhere under it.
+func (f *Forest) Within(n, top int) bool {
+	for n != 0 && n != top {
+		n = f.Parent(n)
+	}
+	return n == top
+}
+
+// Insert puts child, which stands nowhere, under parent: just ahead of
+// before, which stands there, or behind all others if that is 0.
+func (f *Forest) Insert(parent, child, before int) {
+	ahead := f.nodes[parent].last
+	if before != 0 {
+		ahead = f.nodes[before].ahead
+	}
+	f.nodes[child].parent = parent
+	f.join(parent, ahead, child)
+	f.join(parent, child, before)
+}
+
+// Remove takes a node which has a parent out from under it.
+func (f *Forest) Remove(n int) {
+	p := f.nodes[n].place
+	f.join(p.parent, p.ahead, p.behind)
+	f.nodes[n].place = place{first: p.first, last: p.last}
+}
+
+// join makes two kids of parent neighbours. 0 is the end of the chain, which
+// the parent holds.
+func (f *Forest) join(parent, ahead, behind int) {
+	if ahead == 0 {
+		f.nodes[parent].first = behind
+	} else {
+		f.nodes[ahead].behind = behind
+	}
+	if behind == 0 {
+		f.nodes[parent].last = ahead
+	} else {
+		f.nodes[behind].ahead = ahead
+	}
+}
