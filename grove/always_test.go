@@ -11,37 +11,79 @@ import (
 	"grove/grove"
 )
 
-// P1: no call panics at any number, and what is refused changes nothing.
-func TestRefusedCallsChangeNothing(t *testing.T) {
+// settled is a grove with something of everything.
+func settled(t *testing.T) *grove.Grove {
+	t.Helper()
 	g := plant(t, "/ a b # ! c /")
 	under(t, g, 1, 5, 2)
 	under(t, g, 2, 3, 4)
+	wantSet(t, g, 3, "id", "x", api.OK)
+	wantSet(t, g, 3, "class", "x", api.OK)
+	wantWatch(t, g, 1, api.ByTag, "b", 1, api.OK)
+	wantWatch(t, g, 2, api.ByClass, "x", 2, api.OK)
+	wantWatch(t, g, 2, api.Nodes, "", 3, api.OK)
+	return g
+}
+
+// P1: no call panics at any number or text, and what is refused changes
+// nothing.
+func TestRefusedCallsChangeNothing(t *testing.T) {
+	g := settled(t)
 	numbers := []int{math.MinInt, -301, -1, 0, 1, 2, 3, 4, 5, 6, 7, 8, 300, 301, 1 << 32, math.MaxInt}
-	texts := []string{"", "ninenines", "\xff\x00", strings.Repeat("x", 41), strings.Repeat("x", 1<<16)}
+	texts := []string{"", "x", "id", "class", "*", "x y", "ninenines", "\xff\x00", strings.Repeat("x", 41), strings.Repeat("x", 1<<16)}
 	before := shape(g)
-	same := func(what string, err api.Errno) {
+	same := func(what string, n int, err api.Errno) {
 		t.Helper()
 		if err == api.OK {
-			g = plant(t, "/ a b # ! c /")
-			under(t, g, 1, 5, 2)
-			under(t, g, 2, 3, 4)
-		} else if after := shape(g); after != before {
+			g = settled(t)
+			return
+		}
+		if n != 0 {
+			t.Errorf("%s answered %d beside the error %d", what, n, err)
+		}
+		if after := shape(g); after != before {
 			t.Fatalf("%s was refused by %d, but changed\n%sto\n%s", what, err, before, after)
 		}
 	}
 	for _, a := range numbers {
-		same("Take", g.Take(a))
+		same("Take", 0, g.Take(a))
 		for _, text := range texts {
 			n, err := g.Make(a, text)
-			if err != api.OK && n != 0 {
-				t.Errorf("Make(%d, %q) = %d beside the error %d", a, text, n, err)
+			same("Make", n, err)
+			same("Unset", 0, g.Unset(a, text))
+			for _, value := range texts {
+				same("Set", 0, g.Set(a, text, value))
 			}
-			same("Make", err)
 		}
 		for _, b := range numbers {
-			for _, c := range numbers {
-				same("Put", g.Put(a, b, c))
+			for _, text := range texts {
+				n, err := g.Watch(a, b, text)
+				same("Watch", n, err)
 			}
+			for _, c := range numbers {
+				same("Put", 0, g.Put(a, b, c))
+			}
+		}
+	}
+}
+
+// P1 and P2: looks end at any number or text, and change nothing.
+func TestLooksAtAnythingChangeNothing(t *testing.T) {
+	g := settled(t)
+	before := shape(g)
+	for _, a := range []int{math.MinInt, -1, 0, 1, 2, 3, 4, 8, 51, 301, math.MaxInt} {
+		g.Kids(a)
+		g.Parent(a)
+		g.Len(a)
+		for _, b := range []int{math.MinInt, -1, 0, 1, 2, math.MaxInt} {
+			g.Item(a, b)
+		}
+		for _, text := range []string{"", "x", "\xff", strings.Repeat("x", 1<<16)} {
+			g.ById(a, text)
+			g.Named(a, text)
+		}
+		if after := shape(g); after != before {
+			t.Fatalf("looks at %d changed\n%sto\n%s", a, before, after)
 		}
 	}
 }
@@ -59,6 +101,11 @@ func TestGreatestTrees(t *testing.T) {
 	wantPut(t, deep, api.MaxNodes, 1, 0, api.OK)
 	wantParent(t, deep, 1, api.MaxNodes)
 	wantKids(t, deep, 149)
+	wantWatch(t, deep, 150, api.ByTag, "a", 1, api.OK)
+	wantItem(t, deep, 1, api.MaxNodes-2, 149)
+	wantSet(t, deep, 149, "id", "x", api.OK)
+	wantNamed(t, deep, 1, "x", 149)
+	wantById(t, deep, 150, "x", 149, api.OK)
 	wide := plant(t, strings.Repeat("a ", api.MaxNodes))
 	var want []int
 	for n := 2; n <= api.MaxNodes; n++ {
@@ -66,6 +113,10 @@ func TestGreatestTrees(t *testing.T) {
 		want = append(want, n)
 	}
 	wantKids(t, wide, 1, want...)
+	wantWatch(t, wide, 1, api.ByTag, "a", 1, api.OK)
+	wantWatch(t, wide, 1, api.Elements, "", 2, api.OK)
+	wantList(t, wide, 1, want...)
+	wantList(t, wide, 2, want...)
 }
 
 // P2: groves know nothing of each other.
@@ -80,6 +131,17 @@ func TestGrovesStandApart(t *testing.T) {
 	wantKids(t, h, 2, 1)
 	wantMake(t, h, api.Text, "", 3, api.OK)
 	wantMake(t, g, api.Text, "", 4, api.OK)
+	wantSet(t, g, 1, "id", "x", api.OK)
+	wantById(t, h, 2, "x", 0, api.OK)
+	wantUnset(t, h, 1, "id", api.ErrNone)
+	wantWatch(t, g, 1, api.Nodes, "", 1, api.OK)
+	wantWatch(t, g, 1, api.ByTag, "*", 2, api.OK)
+	wantWatch(t, h, 2, api.Nodes, "", 1, api.OK)
+	wantList(t, g, 1, 2, 3)
+	wantList(t, h, 1, 1)
+	if _, err := h.Len(2); err != api.ErrThing {
+		t.Errorf("Len(2) = %d, want ErrThing", err)
+	}
 }
 
 // P2: a list that came out is the caller's, spare room and all.
@@ -105,17 +167,25 @@ func TestListsAreTheCallers(t *testing.T) {
 	}
 }
 
-// P2: looks change nothing, and the same deeds give the same answers.
+// P2 and P10: looks change nothing, and the same deeds give the same answers.
 func TestLooksChangeNothing(t *testing.T) {
 	r := rand.New(rand.NewSource(2))
 	g, h := plant(t, "/ a b c # ! d"), plant(t, "/ a b c # ! d")
+	for how := api.ByTag; how <= api.Nodes; how++ {
+		wantWatch(t, g, 2, how, "x", how, api.OK)
+		wantWatch(t, h, 2, how, "x", how, api.OK)
+	}
 	for range 500 {
 		p, c, b := r.Intn(9), r.Intn(9), r.Intn(9)*r.Intn(2)
+		name := []string{"id", "name", "class"}[r.Intn(3)]
 		if once, twice := shape(g), shape(g); once != twice {
 			t.Fatalf("a look changed\n%sto\n%s", once, twice)
 		}
 		if x, y := g.Put(p, c, b), h.Put(p, c, b); x != y {
 			t.Fatalf("Put(%d, %d, %d) = %d with looks, %d without", p, c, b, x, y)
+		}
+		if g.Set(p, name, "x") != h.Set(p, name, "x") || g.Unset(c, name) != h.Unset(c, name) {
+			t.Fatalf("Set(%d, %s, x) or Unset(%d, %s) is another one with looks", p, name, c, name)
 		}
 		if r.Intn(3) == 0 && g.Take(c) != h.Take(c) {
 			t.Fatalf("Take(%d) is another one with looks", c)
@@ -132,5 +202,12 @@ func TestEmptyGroveRefusesAllNumbers(t *testing.T) {
 	for _, n := range []int{math.MinInt, -1, 0, 1, 2, math.MaxInt} {
 		wantPut(t, g, n, n, n, api.ErrNode)
 		wantTake(t, g, n, api.ErrNode)
+		wantSet(t, g, n, "id", "x", api.ErrNode)
+		wantUnset(t, g, n, "id", api.ErrNode)
+		wantById(t, g, n, "x", 0, api.ErrNode)
+		wantWatch(t, g, n, api.Nodes, "", 0, api.ErrNode)
+		if l, err := g.Len(n); l != 0 || err != api.ErrThing {
+			t.Errorf("Len(%d) = %d, %d, want 0, ErrThing", n, l, err)
+		}
 	}
 }

@@ -25,3 +25,25 @@ func Example() {
 	// true
 	// [2]
 }
+
+func ExampleGrove_Watch() {
+	g := grove.New()
+	list, _ := g.Make(api.Element, "list")
+	one, _ := g.Make(api.Element, "item")
+	two, _ := g.Make(api.Element, "item")
+	items, _ := g.Watch(list, api.ByTag, "item")
+	g.Put(list, one, 0)
+	fmt.Println(g.Len(items))
+	g.Put(list, two, one)
+	fmt.Println(g.Len(items))
+	fmt.Println(g.Item(items, 0))
+	g.Set(one, "id", "first")
+	fmt.Println(g.Named(items, "first"))
+	fmt.Println(g.ById(list, "first"))
+	// Output:
+	// 1 0
+	// 2 0
+	// 3 0
+	// 2 0
+	// 2 0
+}

@@ -3,12 +3,14 @@ package grove
 
 import (
 	"grove/api"
+	"grove/live"
 	"grove/tree"
 )
 
 // Grove is nodes, and what looks at them.
 type Grove struct {
 	forest tree.Forest
+	lists  []live.List
 }
 
 // New makes an empty grove (P3).
@@ -71,25 +73,101 @@ func (g *Grove) Parent(node int) (int, api.Errno) {
 }
 
 // Set gives an element an attribute (P6).
-func (g *Grove) Set(node int, name string, value string) api.Errno { return api.OK }
+func (g *Grove) Set(node int, name string, value string) api.Errno {
+	if err := g.mayHave(node, name); err != api.OK {
+		return err
+	}
+	if len(value) > api.MaxData {
+		return api.ErrLong
+	}
+	g.forest.Set(node, name, value)
+	return api.OK
+}
 
 // Unset takes one away (P6).
-func (g *Grove) Unset(node int, name string) api.Errno { return api.OK }
+func (g *Grove) Unset(node int, name string) api.Errno {
+	if err := g.mayHave(node, name); err != api.OK {
+		return err
+	}
+	if !g.forest.Element(node).Has(name) {
+		return api.ErrNone
+	}
+	g.forest.Unset(node, name)
+	return api.OK
+}
+
+// mayHave asks whether the node may have an attribute of this name.
+func (g *Grove) mayHave(node int, name string) api.Errno {
+	if !g.forest.Has(node) {
+		return api.ErrNode
+	}
+	if g.forest.Element(node) == nil {
+		return api.ErrKind
+	}
+	if !tree.IsName(name) {
+		return api.ErrName
+	}
+	return api.OK
+}
 
 // ById tells the first element with an id (P6).
-func (g *Grove) ById(root int, id string) (int, api.Errno) { return 0, api.OK }
+func (g *Grove) ById(root int, id string) (int, api.Errno) {
+	if !g.forest.Has(root) {
+		return 0, api.ErrNode
+	}
+	return g.forest.ById(root, id), api.OK
+}
 
 // Watch makes a live list (P7).
-func (g *Grove) Watch(root int, how int, what string) (int, api.Errno) { return 0, api.OK }
+func (g *Grove) Watch(root int, how int, what string) (int, api.Errno) {
+	if !g.forest.Has(root) {
+		return 0, api.ErrNode
+	}
+	l, err := live.NewList(root, how, what)
+	if err != api.OK {
+		return 0, err
+	}
+	if len(g.lists) >= api.MaxThings {
+		return 0, api.ErrFull
+	}
+	g.lists = append(g.lists, l)
+	return len(g.lists), api.OK
+}
+
+// list is the list of this number, nil if there is none.
+func (g *Grove) list(n int) *live.List {
+	if n < 1 || n > len(g.lists) {
+		return nil
+	}
+	return &g.lists[n-1]
+}
 
 // Len tells how many nodes a list has (P7).
-func (g *Grove) Len(list int) (int, api.Errno) { return 0, api.OK }
+func (g *Grove) Len(list int) (int, api.Errno) {
+	l := g.list(list)
+	if l == nil {
+		return 0, api.ErrThing
+	}
+	return l.Len(&g.forest), api.OK
+}
 
 // Item tells a node of a list (P7).
-func (g *Grove) Item(list int, i int) (int, api.Errno) { return 0, api.OK }
+func (g *Grove) Item(list int, i int) (int, api.Errno) {
+	l := g.list(list)
+	if l == nil {
+		return 0, api.ErrThing
+	}
+	return l.Item(&g.forest, i), api.OK
+}
 
 // Named tells the first node of a list that has a name (P7).
-func (g *Grove) Named(list int, name string) (int, api.Errno) { return 0, api.OK }
+func (g *Grove) Named(list int, name string) (int, api.Errno) {
+	l := g.list(list)
+	if l == nil {
+		return 0, api.ErrThing
+	}
+	return l.Named(&g.forest, name), api.OK
+}
 
 // Iter makes an iterator (P8).
 func (g *Grove) Iter(root int, show int, rules []api.Rule) (int, api.Errno) { return 0, api.OK }

@@ -74,15 +74,39 @@ func wantParent(t *testing.T, g *grove.Grove, node, want int) {
 	}
 }
 
-// shape tells all that can be seen of the trees, and how many nodes there are.
+// shape tells all that can be seen of the trees and of the lists, and how many
+// nodes and lists there are; of attributes, by the names and ids x and y.
 func shape(g *grove.Grove) string {
 	var b strings.Builder
 	for n := 0; ; n++ {
 		kids, err := g.Kids(n)
 		p, perr := g.Parent(n)
-		fmt.Fprintln(&b, n, kids, err, p, perr)
+		x, xerr := g.ById(n, "x")
+		y, yerr := g.ById(n, "y")
+		fmt.Fprintln(&b, n, kids, err, p, perr, x, xerr, y, yerr)
 		if n > 0 && err != api.OK {
+			break
+		}
+	}
+	for l := 0; ; l++ {
+		n, err := g.Len(l)
+		x, xerr := g.Named(l, "x")
+		y, yerr := g.Named(l, "y")
+		fmt.Fprintln(&b, "list", l, n, err, items(g, l), x, xerr, y, yerr)
+		if l > 0 && err != api.OK {
 			return b.String()
 		}
+	}
+}
+
+// items is what a list has, by Item alone.
+func items(g *grove.Grove, list int) []int {
+	var l []int
+	for i := 0; ; i++ {
+		n, _ := g.Item(list, i)
+		if n == 0 {
+			return l
+		}
+		l = append(l, n)
 	}
 }

@@ -9,16 +9,18 @@ import (
 	"grove/api"
 )
 
-// model is the document's words on Put and Take, done by looks at all nodes.
+// model is the document's words on trees and lists, done by looks at all nodes.
 type model struct {
 	word map[int]string
 	kids map[int][]int
+	attr map[int]map[string]string
 }
 
 func newModel(words string) *model {
-	m := &model{word: map[int]string{}, kids: map[int][]int{}}
+	m := &model{word: map[int]string{}, kids: map[int][]int{}, attr: map[int]map[string]string{}}
 	for i, w := range strings.Fields(words) {
 		m.word[i+1] = w
+		m.attr[i+1] = map[string]string{}
 	}
 	return m
 }

@@ -36,7 +36,7 @@ func (g *Grove) fitsRoot(root, child int) bool {
 	switch g.forest.Kind(child).(type) {
 	case tree.Text:
 		return false
-	case tree.Element:
+	case *tree.Element:
 		return !g.hasOtherElement(root, child)
 	}
 	return true
@@ -44,17 +44,9 @@ func (g *Grove) fitsRoot(root, child int) bool {
 
 func (g *Grove) hasOtherElement(parent, child int) bool {
 	for k := g.forest.First(parent); k != 0; k = g.forest.Behind(k) {
-		if k != child && g.isElement(k) {
+		if k != child && g.forest.Element(k) != nil {
 			return true
 		}
-	}
-	return false
-}
-
-func (g *Grove) isElement(n int) bool {
-	switch g.forest.Kind(n).(type) {
-	case tree.Element:
-		return true
 	}
 	return false
 }

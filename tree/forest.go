@@ -1,5 +1,7 @@
 package tree
 
+import "iter"
+
 // place is where a node stands, by its neighbours' numbers; 0 where there is
 // none. Kids are chained, so that none is looked for when one comes or goes.
 type place struct {
@@ -15,10 +17,18 @@ type node struct {
 	kind Kind
 }
 
+// Stamp counts the changes that a list may hang on: while it is the same, so
+// is what stands where, and of what classes.
+type Stamp struct {
+	Places  int
+	Classes int
+}
+
 // Forest is nodes with numbers from 1 on. But for Has, its methods take only
 // numbers of nodes that it has; and 0 only where they say so.
 type Forest struct {
 	nodes []node
+	stamp Stamp
 }
 
 // NewForest is a forest without nodes.
@@ -40,8 +50,39 @@ func (f *Forest) Add(k Kind) int {
 	return f.Count()
 }
 
+// Stamp is the stamp of now.
+func (f *Forest) Stamp() Stamp { return f.stamp }
+
 // Kind tells what a node is.
 func (f *Forest) Kind(n int) Kind { return f.nodes[n].kind }
+
+// Element is the node as an element, nil if it is none.
+func (f *Forest) Element(n int) *Element {
+	switch k := f.Kind(n).(type) {
+	case *Element:
+		return k
+	}
+	return nil
+}
+
+// Set gives an element an attribute, in place of the one of this name.
+func (f *Forest) Set(n int, name, value string) {
+	f.Element(n).attributes[name] = attribute{value: value}
+	f.count(name)
+}
+
+// Unset takes an attribute from an element.
+func (f *Forest) Unset(n int, name string) {
+	delete(f.Element(n).attributes, name)
+	f.count(name)
+}
+
+// count notes that an attribute of this name was changed.
+func (f *Forest) count(name string) {
+	if name == classes {
+		f.stamp.Classes++
+	}
+}
 
 // Parent tells under what a node stands, 0 if under nothing.
 func (f *Forest) Parent(n int) int { return f.nodes[n].parent }
@@ -59,6 +100,44 @@ func (f *Forest) Kids(n int) []int {
 		kids = append(kids, k)
 	}
 	return kids
+}
+
+// Next tells what stands behind n in the order of the tree, of what is within
+// top, as n is; 0 if nothing does.
+func (f *Forest) Next(n, top int) int {
+	if k := f.First(n); k != 0 {
+		return k
+	}
+	for n != top {
+		if b := f.Behind(n); b != 0 {
+			return b
+		}
+		n = f.Parent(n)
+	}
+	return 0
+}
+
+// Under goes through all that is under a node, in the order of the tree.
+func (f *Forest) Under(top int) iter.Seq[int] {
+	return func(yield func(int) bool) {
+		for n := f.Next(top, top); n != 0 && yield(n); {
+			n = f.Next(n, top)
+		}
+	}
+}
+
+// ById tells the first element under top whose attribute id is this one, 0 if
+// there is none. An empty text is nobody's id.
+func (f *Forest) ById(top int, id string) int {
+	if id == "" {
+		return 0
+	}
+	for n := range f.Under(top) {
+		if e := f.Element(n); e != nil && e.Is("id", id) {
+			return n
+		}
+	}
+	return 0
 }
 
 // Within tells whether n is top itself or stands somewhere under it.
@@ -79,6 +158,7 @@ func (f *Forest) Insert(parent, child, before int) {
 	f.nodes[child].parent = parent
 	f.join(parent, ahead, child)
 	f.join(parent, child, before)
+	f.stamp.Places++
 }
 
 // Remove takes a node which has a parent out from under it.
@@ -86,6 +166,7 @@ func (f *Forest) Remove(n int) {
 	p := f.nodes[n].place
 	f.join(p.parent, p.ahead, p.behind)
 	f.nodes[n].place = place{first: p.first, last: p.last}
+	f.stamp.Places++
 }
 
 // join makes two kids of parent neighbours. 0 is the end of the chain, which

@@ -13,11 +13,6 @@ type Kind interface {
 // Root is the top of a tree.
 type Root struct{}
 
-// Element has a name, its tag.
-type Element struct {
-	Tag string
-}
-
 // Text is something said.
 type Text struct {
 	Says string
@@ -28,15 +23,13 @@ type Note struct {
 	Says string
 }
 
-func (Root) MayHaveKids() bool    { return true }
-func (Element) MayHaveKids() bool { return true }
-func (Text) MayHaveKids() bool    { return false }
-func (Note) MayHaveKids() bool    { return false }
+func (Root) MayHaveKids() bool { return true }
+func (Text) MayHaveKids() bool { return false }
+func (Note) MayHaveKids() bool { return false }
 
-func (Root) MayHaveParent() bool    { return false }
-func (Element) MayHaveParent() bool { return true }
-func (Text) MayHaveParent() bool    { return true }
-func (Note) MayHaveParent() bool    { return true }
+func (Root) MayHaveParent() bool { return false }
+func (Text) MayHaveParent() bool { return true }
+func (Note) MayHaveParent() bool { return true }
 
 // NewKind is the kind of this number with its text, or what forbids it.
 func NewKind(kind int, text string) (Kind, api.Errno) {
@@ -45,7 +38,7 @@ func NewKind(kind int, text string) (Kind, api.Errno) {
 		if !IsName(text) {
 			return nil, api.ErrName
 		}
-		return Element{Tag: text}, api.OK
+		return newElement(text), api.OK
 	case api.Root, api.Text, api.Note:
 		// A root's text counts for nothing, but the limit is for it too.
 		if len(text) > api.MaxData {

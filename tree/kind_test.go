@@ -17,7 +17,6 @@ func TestNewKind(t *testing.T) {
 	}{
 		{api.Root, "", Root{}, api.OK},
 		{api.Root, "counts for nothing", Root{}, api.OK},
-		{api.Element, "tag", Element{Tag: "tag"}, api.OK},
 		{api.Text, "Says.", Text{Says: "Says."}, api.OK},
 		{api.Note, long[1:], Note{Says: long[1:]}, api.OK},
 		{0, "tag", nil, api.ErrKind},
@@ -33,13 +32,24 @@ func TestNewKind(t *testing.T) {
 	}
 }
 
+func TestNewKindOfElements(t *testing.T) {
+	k, err := NewKind(api.Element, "tag")
+	if e, ok := k.(*Element); !ok || e.Tag != "tag" || len(e.attributes) != 0 || err != api.OK {
+		t.Errorf("NewKind(Element, tag) = %v, %d", k, err)
+	}
+	// What is set at one of two must not be seen at the other.
+	if other, _ := NewKind(api.Element, "tag"); other == k {
+		t.Error("two elements are the same")
+	}
+}
+
 func TestWhatKindsMayHave(t *testing.T) {
 	for _, c := range []struct {
 		kind         Kind
 		kids, parent bool
 	}{
 		{Root{}, true, false},
-		{Element{}, true, true},
+		{&Element{}, true, true},
 		{Text{}, false, true},
 		{Note{}, false, true},
 	} {
