@@ -22,6 +22,9 @@ func settled(t *testing.T) *grove.Grove {
 	wantWatch(t, g, 1, api.ByTag, "b", 1, api.OK)
 	wantWatch(t, g, 2, api.ByClass, "x", 2, api.OK)
 	wantWatch(t, g, 2, api.Nodes, "", 3, api.OK)
+	wantIter(t, g, 1, 30, nil, 1, api.OK)
+	wantIter(t, g, 2, 30, nil, 2, api.OK)
+	wantOn(t, g, 2, 2, 3, 4)
 	return g
 }
 
@@ -31,6 +34,7 @@ func TestRefusedCallsChangeNothing(t *testing.T) {
 	g := settled(t)
 	numbers := []int{math.MinInt, -301, -1, 0, 1, 2, 3, 4, 5, 6, 7, 8, 300, 301, 1 << 32, math.MaxInt}
 	texts := []string{"", "x", "id", "class", "*", "x y", "ninenines", "\xff\x00", strings.Repeat("x", 41), strings.Repeat("x", 1<<16)}
+	rules := [][]api.Rule{nil, {{Name: "b", Verdict: api.Skip}}, {{Name: "b", Verdict: math.MaxInt}}, {{Name: "B", Verdict: api.Skip}}, make([]api.Rule, 11), make([]api.Rule, 1<<16)}
 	before := shape(g)
 	same := func(what string, n int, err api.Errno) {
 		t.Helper()
@@ -47,6 +51,10 @@ func TestRefusedCallsChangeNothing(t *testing.T) {
 	}
 	for _, a := range numbers {
 		same("Take", 0, g.Take(a))
+		for _, back := range []bool{false, true} {
+			n, err := g.Step(a, back)
+			same("Step", n, err)
+		}
 		for _, text := range texts {
 			n, err := g.Make(a, text)
 			same("Make", n, err)
@@ -59,6 +67,10 @@ func TestRefusedCallsChangeNothing(t *testing.T) {
 			for _, text := range texts {
 				n, err := g.Watch(a, b, text)
 				same("Watch", n, err)
+			}
+			for _, l := range rules {
+				n, err := g.Iter(a, b, l)
+				same("Iter", n, err)
 			}
 			for _, c := range numbers {
 				same("Put", 0, g.Put(a, b, c))
@@ -75,6 +87,7 @@ func TestLooksAtAnythingChangeNothing(t *testing.T) {
 		g.Kids(a)
 		g.Parent(a)
 		g.Len(a)
+		g.At(a)
 		for _, b := range []int{math.MinInt, -1, 0, 1, 2, math.MaxInt} {
 			g.Item(a, b)
 		}
@@ -106,6 +119,7 @@ func TestGreatestTrees(t *testing.T) {
 	wantSet(t, deep, 149, "id", "x", api.OK)
 	wantNamed(t, deep, 1, "x", 149)
 	wantById(t, deep, 150, "x", 149, api.OK)
+	goThrough(t, deep, 150)
 	wide := plant(t, strings.Repeat("a ", api.MaxNodes))
 	var want []int
 	for n := 2; n <= api.MaxNodes; n++ {
@@ -117,6 +131,35 @@ func TestGreatestTrees(t *testing.T) {
 	wantWatch(t, wide, 1, api.Elements, "", 2, api.OK)
 	wantList(t, wide, 1, want...)
 	wantList(t, wide, 2, want...)
+	goThrough(t, wide, 1)
+}
+
+// goThrough steps through all 300 nodes within root, on and back, and has an
+// iterator at the last one fall back to root.
+func goThrough(t *testing.T, g *grove.Grove, root int) {
+	t.Helper()
+	wantIter(t, g, root, allKinds, nil, 1, api.OK)
+	last := root
+	for range api.MaxNodes {
+		last, _ = g.Step(1, false)
+	}
+	if last == 0 {
+		t.Error("there were less than 300 steps on")
+	}
+	wantOn(t, g, 1, 0)
+	for range api.MaxNodes - 1 {
+		g.Step(1, true)
+	}
+	wantBack(t, g, 1, root, 0)
+	for range api.MaxNodes {
+		g.Step(1, false)
+	}
+	wantAt(t, g, 1, last, false)
+	kids, _ := g.Kids(root)
+	for _, k := range kids {
+		wantTake(t, g, k, api.OK)
+	}
+	wantAt(t, g, 1, root, false)
 }
 
 // P2: groves know nothing of each other.
@@ -142,6 +185,15 @@ func TestGrovesStandApart(t *testing.T) {
 	if _, err := h.Len(2); err != api.ErrThing {
 		t.Errorf("Len(2) = %d, want ErrThing", err)
 	}
+	wantIter(t, g, 1, allKinds, nil, 1, api.OK)
+	if _, _, err := h.At(1); err != api.ErrThing {
+		t.Errorf("At(1) = %d, want ErrThing", err)
+	}
+	wantIter(t, h, 2, allKinds, nil, 1, api.OK)
+	wantOn(t, h, 1, 2, 1)
+	wantTake(t, h, 1, api.OK)
+	wantAt(t, h, 1, 2, false)
+	wantAt(t, g, 1, 1, true)
 }
 
 // P2: a list that came out is the caller's, spare room and all.
@@ -174,6 +226,8 @@ func TestLooksChangeNothing(t *testing.T) {
 	for how := api.ByTag; how <= api.Nodes; how++ {
 		wantWatch(t, g, 2, how, "x", how, api.OK)
 		wantWatch(t, h, 2, how, "x", how, api.OK)
+		wantIter(t, g, how, allKinds, nil, how, api.OK)
+		wantIter(t, h, how, allKinds, nil, how, api.OK)
 	}
 	for range 500 {
 		p, c, b := r.Intn(9), r.Intn(9), r.Intn(9)*r.Intn(2)
@@ -189,6 +243,12 @@ func TestLooksChangeNothing(t *testing.T) {
 		}
 		if r.Intn(3) == 0 && g.Take(c) != h.Take(c) {
 			t.Fatalf("Take(%d) is another one with looks", c)
+		}
+		iter, back := 1+r.Intn(4), r.Intn(3) == 0
+		x, _ := g.Step(iter, back)
+		y, _ := h.Step(iter, back)
+		if x != y {
+			t.Fatalf("Step(%d, %t) = %d with looks, %d without", iter, back, x, y)
 		}
 	}
 	if shape(g) != shape(h) {
@@ -208,6 +268,10 @@ func TestEmptyGroveRefusesAllNumbers(t *testing.T) {
 		wantWatch(t, g, n, api.Nodes, "", 0, api.ErrNode)
 		if l, err := g.Len(n); l != 0 || err != api.ErrThing {
 			t.Errorf("Len(%d) = %d, %d, want 0, ErrThing", n, l, err)
+		}
+		wantIter(t, g, n, allKinds, nil, 0, api.ErrNode)
+		if m, err := g.Step(n, false); m != 0 || err != api.ErrThing {
+			t.Errorf("Step(%d, false) = %d, %d, want 0, ErrThing", n, m, err)
 		}
 	}
 }

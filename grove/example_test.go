@@ -47,3 +47,25 @@ func ExampleGrove_Watch() {
 	// 2 0
 	// 2 0
 }
+
+func ExampleGrove_Iter() {
+	g := grove.New()
+	list, _ := g.Make(api.Element, "list")
+	one, _ := g.Make(api.Element, "item")
+	two, _ := g.Make(api.Text, "the second")
+	g.Put(list, one, 0)
+	g.Put(list, two, 0)
+	way, _ := g.Iter(list, api.MaxShow, []api.Rule{{Name: "list", Verdict: api.Skip}})
+	fmt.Println(g.Step(way, false))
+	g.Take(one)
+	fmt.Println(g.At(way))
+	fmt.Println(g.Step(way, false))
+	fmt.Println(g.Step(way, false))
+	fmt.Println(g.Step(way, true))
+	// Output:
+	// 2 0
+	// 1 false 0
+	// 3 0
+	// 0 0
+	// 3 0
+}

@@ -9,8 +9,9 @@ import (
 
 // Grove is nodes, and what looks at them.
 type Grove struct {
-	forest tree.Forest
-	lists  []live.List
+	forest    tree.Forest
+	lists     []live.List
+	iterators []live.Iterator
 }
 
 // New makes an empty grove (P3).
@@ -38,7 +39,7 @@ func (g *Grove) Put(parent int, child int, before int) api.Errno {
 		before = g.forest.Behind(child)
 	}
 	if g.forest.Parent(child) != 0 {
-		g.forest.Remove(child)
+		g.takeOut(child)
 	}
 	g.forest.Insert(parent, child, before)
 	return api.OK
@@ -52,8 +53,17 @@ func (g *Grove) Take(node int) api.Errno {
 	if g.forest.Parent(node) == 0 {
 		return api.ErrLoose
 	}
-	g.forest.Remove(node)
+	g.takeOut(node)
 	return api.OK
+}
+
+// takeOut takes a node which has a parent out from under it.
+func (g *Grove) takeOut(node int) {
+	// Iterators find their new places in the tree as it was.
+	for i := range g.iterators {
+		g.iterators[i].Leave(&g.forest, node)
+	}
+	g.forest.Remove(node)
 }
 
 // Kids tells what stands under a node (P5).
@@ -134,17 +144,17 @@ func (g *Grove) Watch(root int, how int, what string) (int, api.Errno) {
 	return len(g.lists), api.OK
 }
 
-// list is the list of this number, nil if there is none.
-func (g *Grove) list(n int) *live.List {
-	if n < 1 || n > len(g.lists) {
+// numbered is the thing of this number, from 1 on; nil if there is none.
+func numbered[T any](things []T, n int) *T {
+	if n < 1 || n > len(things) {
 		return nil
 	}
-	return &g.lists[n-1]
+	return &things[n-1]
 }
 
 // Len tells how many nodes a list has (P7).
 func (g *Grove) Len(list int) (int, api.Errno) {
-	l := g.list(list)
+	l := numbered(g.lists, list)
 	if l == nil {
 		return 0, api.ErrThing
 	}
@@ -153,7 +163,7 @@ func (g *Grove) Len(list int) (int, api.Errno) {
 
 // Item tells a node of a list (P7).
 func (g *Grove) Item(list int, i int) (int, api.Errno) {
-	l := g.list(list)
+	l := numbered(g.lists, list)
 	if l == nil {
 		return 0, api.ErrThing
 	}
@@ -162,7 +172,7 @@ func (g *Grove) Item(list int, i int) (int, api.Errno) {
 
 // Named tells the first node of a list that has a name (P7).
 func (g *Grove) Named(list int, name string) (int, api.Errno) {
-	l := g.list(list)
+	l := numbered(g.lists, list)
 	if l == nil {
 		return 0, api.ErrThing
 	}
@@ -170,13 +180,39 @@ func (g *Grove) Named(list int, name string) (int, api.Errno) {
 }
 
 // Iter makes an iterator (P8).
-func (g *Grove) Iter(root int, show int, rules []api.Rule) (int, api.Errno) { return 0, api.OK }
+func (g *Grove) Iter(root int, show int, rules []api.Rule) (int, api.Errno) {
+	if !g.forest.Has(root) {
+		return 0, api.ErrNode
+	}
+	f, err := live.NewFilter(show, rules)
+	if err != api.OK {
+		return 0, err
+	}
+	if len(g.iterators) >= api.MaxThings {
+		return 0, api.ErrFull
+	}
+	g.iterators = append(g.iterators, live.NewIterator(root, f))
+	return len(g.iterators), api.OK
+}
 
 // Step steps an iterator (P8).
-func (g *Grove) Step(iter int, back bool) (int, api.Errno) { return 0, api.OK }
+func (g *Grove) Step(iter int, back bool) (int, api.Errno) {
+	i := numbered(g.iterators, iter)
+	if i == nil {
+		return 0, api.ErrThing
+	}
+	return i.Step(&g.forest, back), api.OK
+}
 
 // At tells where an iterator is (P8).
-func (g *Grove) At(iter int) (int, bool, api.Errno) { return 0, false, api.OK }
+func (g *Grove) At(iter int) (int, bool, api.Errno) {
+	i := numbered(g.iterators, iter)
+	if i == nil {
+		return 0, false, api.ErrThing
+	}
+	place, ahead := i.At()
+	return place, ahead, api.OK
+}
 
 // Walker makes a walker (P9).
 func (g *Grove) Walker(root int, show int, rules []api.Rule) (int, api.Errno) { return 0, api.OK }

@@ -74,8 +74,9 @@ func wantParent(t *testing.T, g *grove.Grove, node, want int) {
 	}
 }
 
-// shape tells all that can be seen of the trees and of the lists, and how many
-// nodes and lists there are; of attributes, by the names and ids x and y.
+// shape tells all that looks can see of the trees, of the lists and of the
+// iterators, and how many there are; of attributes, by the names and ids x
+// and y.
 func shape(g *grove.Grove) string {
 	var b strings.Builder
 	for n := 0; ; n++ {
@@ -94,6 +95,13 @@ func shape(g *grove.Grove) string {
 		y, yerr := g.Named(l, "y")
 		fmt.Fprintln(&b, "list", l, n, err, items(g, l), x, xerr, y, yerr)
 		if l > 0 && err != api.OK {
+			break
+		}
+	}
+	for i := 0; ; i++ {
+		n, ahead, err := g.At(i)
+		fmt.Fprintln(&b, "iterator", i, n, ahead, err)
+		if i > 0 && err != api.OK {
 			return b.String()
 		}
 	}

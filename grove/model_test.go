@@ -9,11 +9,13 @@ import (
 	"grove/api"
 )
 
-// model is the document's words on trees and lists, done by looks at all nodes.
+// model is the document's words on trees and what looks at them, done by looks
+// at all nodes.
 type model struct {
-	word map[int]string
-	kids map[int][]int
-	attr map[int]map[string]string
+	word      map[int]string
+	kids      map[int][]int
+	attr      map[int]map[string]string
+	iterators []*walked
 }
 
 func newModel(words string) *model {
@@ -77,6 +79,9 @@ func (m *model) take(node int) api.Errno {
 		return api.ErrNode
 	case p == 0:
 		return api.ErrLoose
+	}
+	for _, w := range m.iterators {
+		m.leave(w, node)
 	}
 	m.kids[p] = slices.DeleteFunc(m.kids[p], func(k int) bool { return k == node })
 	return api.OK

@@ -108,6 +108,12 @@ func (f *Forest) Next(n, top int) int {
 	if k := f.First(n); k != 0 {
 		return k
 	}
+	return f.Past(n, top)
+}
+
+// Past tells what stands behind all that is within n in the order of the tree,
+// of what is within top, as n is; 0 if nothing does.
+func (f *Forest) Past(n, top int) int {
 	for n != top {
 		if b := f.Behind(n); b != 0 {
 			return b
@@ -115,6 +121,22 @@ func (f *Forest) Next(n, top int) int {
 		n = f.Parent(n)
 	}
 	return 0
+}
+
+// Previous tells what stands ahead of n in the order of the tree, of what is
+// within top, as n is; 0 if nothing does.
+func (f *Forest) Previous(n, top int) int {
+	if n == top {
+		return 0
+	}
+	a := f.nodes[n].ahead
+	if a == 0 {
+		return f.Parent(n)
+	}
+	for k := a; k != 0; k = f.nodes[k].last {
+		a = k
+	}
+	return a
 }
 
 // Under goes through all that is under a node, in the order of the tree.

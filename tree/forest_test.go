@@ -135,6 +135,30 @@ func TestNextStaysWithinTheTop(t *testing.T) {
 	}
 }
 
+func TestPastIsBehindAllThatIsWithin(t *testing.T) {
+	f := grown()
+	for _, c := range []struct{ n, top, want int }{
+		{1, 1, 0}, {2, 1, 6}, {5, 1, 3}, {4, 1, 3}, {3, 1, 6}, {6, 1, 0},
+		{5, 2, 3}, {3, 2, 0}, {2, 2, 0}, {5, 5, 0}, {4, 5, 0}, {7, 7, 0},
+	} {
+		if n := f.Past(c.n, c.top); n != c.want {
+			t.Errorf("Past(%d, %d) = %d, want %d", c.n, c.top, n, c.want)
+		}
+	}
+}
+
+func TestPreviousStaysWithinTheTop(t *testing.T) {
+	f := grown()
+	for _, c := range []struct{ n, top, want int }{
+		{1, 1, 0}, {2, 1, 1}, {5, 1, 2}, {4, 1, 5}, {3, 1, 4}, {6, 1, 3},
+		{2, 2, 0}, {5, 2, 2}, {4, 5, 5}, {6, 6, 0}, {3, 3, 0}, {7, 7, 0},
+	} {
+		if n := f.Previous(c.n, c.top); n != c.want {
+			t.Errorf("Previous(%d, %d) = %d, want %d", c.n, c.top, n, c.want)
+		}
+	}
+}
+
 func TestElementTellsElementsOnly(t *testing.T) {
 	f := NewForest()
 	for _, k := range []Kind{Root{}, newElement("a"), Text{}, Note{}} {

@@ -59,6 +59,19 @@ func newSaying(kind int, text string) Kind {
 	return Root{}
 }
 
+// Number tells by which number the api has this kind.
+func Number(k Kind) int {
+	switch k.(type) {
+	case Root:
+		return api.Root
+	case *Element:
+		return api.Element
+	case Text:
+		return api.Text
+	}
+	return api.Note
+}
+
 // IsName tells whether s may be a tag or the name of an attribute.
 func IsName(s string) bool {
 	if len(s) < 1 || len(s) > api.MaxName {

@@ -43,6 +43,15 @@ func TestNewKindOfElements(t *testing.T) {
 	}
 }
 
+func TestNumberIsThatOfTheApi(t *testing.T) {
+	for kind := api.Root; kind <= api.Note; kind++ {
+		k, err := NewKind(kind, "a")
+		if n := Number(k); n != kind || err != api.OK {
+			t.Errorf("Number(%v) = %d, want %d", k, n, kind)
+		}
+	}
+}
+
 func TestWhatKindsMayHave(t *testing.T) {
 	for _, c := range []struct {
 		kind         Kind
