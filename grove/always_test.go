@@ -25,6 +25,9 @@ func settled(t *testing.T) *grove.Grove {
 	wantIter(t, g, 1, 30, nil, 1, api.OK)
 	wantIter(t, g, 2, 30, nil, 2, api.OK)
 	wantOn(t, g, 2, 2, 3, 4)
+	wantWalker(t, g, 1, 30, nil, 1, api.OK)
+	wantWalker(t, g, 2, 30, nil, 2, api.OK)
+	wantMove(t, g, 2, api.ToLast, 4)
 	return g
 }
 
@@ -71,7 +74,12 @@ func TestRefusedCallsChangeNothing(t *testing.T) {
 			for _, l := range rules {
 				n, err := g.Iter(a, b, l)
 				same("Iter", n, err)
+				n, err = g.Walker(a, b, l)
+				same("Walker", n, err)
 			}
+			n, err := g.Move(a, b)
+			same("Move", n, err)
+			same("Go", 0, g.Go(a, b))
 			for _, c := range numbers {
 				same("Put", 0, g.Put(a, b, c))
 			}
@@ -88,6 +96,7 @@ func TestLooksAtAnythingChangeNothing(t *testing.T) {
 		g.Parent(a)
 		g.Len(a)
 		g.At(a)
+		g.Here(a)
 		for _, b := range []int{math.MinInt, -1, 0, 1, 2, math.MaxInt} {
 			g.Item(a, b)
 		}
@@ -119,6 +128,7 @@ func TestGreatestTrees(t *testing.T) {
 	wantSet(t, deep, 149, "id", "x", api.OK)
 	wantNamed(t, deep, 1, "x", 149)
 	wantById(t, deep, 150, "x", 149, api.OK)
+	walkThrough(t, deep, 150)
 	goThrough(t, deep, 150)
 	wide := plant(t, strings.Repeat("a ", api.MaxNodes))
 	var want []int
@@ -131,7 +141,34 @@ func TestGreatestTrees(t *testing.T) {
 	wantWatch(t, wide, 1, api.Elements, "", 2, api.OK)
 	wantList(t, wide, 1, want...)
 	wantList(t, wide, 2, want...)
+	walkThrough(t, wide, 1)
 	goThrough(t, wide, 1)
+}
+
+// walkThrough walks to all 300 nodes within root, on and back, and has moves
+// look at all of them in vain.
+func walkThrough(t *testing.T, g *grove.Grove, root int) {
+	t.Helper()
+	wantWalker(t, g, root, allKinds, nil, 1, api.OK)
+	wantWalker(t, g, root, 1<<api.Note, nil, 2, api.OK)
+	last := root
+	for range api.MaxNodes - 1 {
+		last, _ = g.Move(1, api.On)
+	}
+	if last == 0 {
+		t.Error("there were less than 299 moves on")
+	}
+	wantMove(t, g, 1, api.On, 0)
+	for _, n := range []int{root, last} {
+		wantGo(t, g, 2, n, api.OK)
+		for how := api.ToParent; how <= api.On; how++ {
+			wantMove(t, g, 2, how, 0)
+		}
+	}
+	for range api.MaxNodes - 2 {
+		g.Move(1, api.Back)
+	}
+	wantMove(t, g, 1, api.Back, root, 0)
 }
 
 // goThrough steps through all 300 nodes within root, on and back, and has an
@@ -194,6 +231,16 @@ func TestGrovesStandApart(t *testing.T) {
 	wantTake(t, h, 1, api.OK)
 	wantAt(t, h, 1, 2, false)
 	wantAt(t, g, 1, 1, true)
+	wantWalker(t, g, 1, allKinds, nil, 1, api.OK)
+	if _, err := h.Here(1); err != api.ErrThing {
+		t.Errorf("Here(1) = %d, want ErrThing", err)
+	}
+	wantWalker(t, h, 3, allKinds, nil, 1, api.OK)
+	wantMove(t, g, 1, api.ToLast, 3)
+	wantHere(t, h, 1, 3)
+	wantGo(t, h, 1, 1, api.OK)
+	wantHere(t, g, 1, 3)
+	wantGo(t, h, 1, 4, api.ErrNode)
 }
 
 // P2: a list that came out is the caller's, spare room and all.
@@ -228,6 +275,8 @@ func TestLooksChangeNothing(t *testing.T) {
 		wantWatch(t, h, 2, how, "x", how, api.OK)
 		wantIter(t, g, how, allKinds, nil, how, api.OK)
 		wantIter(t, h, how, allKinds, nil, how, api.OK)
+		wantWalker(t, g, how, allKinds, nil, how, api.OK)
+		wantWalker(t, h, how, allKinds, nil, how, api.OK)
 	}
 	for range 500 {
 		p, c, b := r.Intn(9), r.Intn(9), r.Intn(9)*r.Intn(2)
@@ -249,6 +298,12 @@ func TestLooksChangeNothing(t *testing.T) {
 		y, _ := h.Step(iter, back)
 		if x != y {
 			t.Fatalf("Step(%d, %t) = %d with looks, %d without", iter, back, x, y)
+		}
+		walker, how := 1+r.Intn(4), api.ToParent+r.Intn(7)
+		x, _ = g.Move(walker, how)
+		y, _ = h.Move(walker, how)
+		if x != y {
+			t.Fatalf("Move(%d, %d) = %d with looks, %d without", walker, how, x, y)
 		}
 	}
 	if shape(g) != shape(h) {
@@ -272,6 +327,11 @@ func TestEmptyGroveRefusesAllNumbers(t *testing.T) {
 		wantIter(t, g, n, allKinds, nil, 0, api.ErrNode)
 		if m, err := g.Step(n, false); m != 0 || err != api.ErrThing {
 			t.Errorf("Step(%d, false) = %d, %d, want 0, ErrThing", n, m, err)
+		}
+		wantWalker(t, g, n, allKinds, nil, 0, api.ErrNode)
+		wantGo(t, g, n, n, api.ErrThing)
+		if m, err := g.Move(n, api.On); m != 0 || err != api.ErrThing {
+			t.Errorf("Move(%d, On) = %d, %d, want 0, ErrThing", n, m, err)
 		}
 	}
 }

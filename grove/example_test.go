@@ -69,3 +69,31 @@ func ExampleGrove_Iter() {
 	// 0 0
 	// 3 0
 }
+
+func ExampleGrove_Walker() {
+	g := grove.New()
+	list, _ := g.Make(api.Element, "list")
+	group, _ := g.Make(api.Element, "group")
+	one, _ := g.Make(api.Element, "item")
+	two, _ := g.Make(api.Element, "item")
+	g.Put(list, group, 0)
+	g.Put(group, one, 0)
+	g.Put(list, two, 0)
+	w, _ := g.Walker(list, api.MaxShow, []api.Rule{{Name: "group", Verdict: api.Skip}})
+	fmt.Println(g.Move(w, api.ToFirst))
+	fmt.Println(g.Move(w, api.ToNext))
+	fmt.Println(g.Move(w, api.ToNext))
+	g.Take(two)
+	fmt.Println(g.Here(w))
+	fmt.Println(g.Move(w, api.ToParent))
+	fmt.Println(g.Go(w, one))
+	fmt.Println(g.Move(w, api.ToParent))
+	// Output:
+	// 3 0
+	// 4 0
+	// 0 0
+	// 4 0
+	// 0 0
+	// 0
+	// 1 0
+}

@@ -12,6 +12,7 @@ type Grove struct {
 	forest    tree.Forest
 	lists     []live.List
 	iterators []live.Iterator
+	walkers   []live.Walker
 }
 
 // New makes an empty grove (P3).
@@ -181,18 +182,28 @@ func (g *Grove) Named(list int, name string) (int, api.Errno) {
 
 // Iter makes an iterator (P8).
 func (g *Grove) Iter(root int, show int, rules []api.Rule) (int, api.Errno) {
-	if !g.forest.Has(root) {
-		return 0, api.ErrNode
-	}
-	f, err := live.NewFilter(show, rules)
+	f, err := g.mayFilter(root, show, rules, len(g.iterators))
 	if err != api.OK {
 		return 0, err
 	}
-	if len(g.iterators) >= api.MaxThings {
-		return 0, api.ErrFull
-	}
 	g.iterators = append(g.iterators, live.NewIterator(root, f))
 	return len(g.iterators), api.OK
+}
+
+// mayFilter is the filter for one more thing at root, of which there are count;
+// or what forbids it.
+func (g *Grove) mayFilter(root int, show int, rules []api.Rule, count int) (live.Filter, api.Errno) {
+	if !g.forest.Has(root) {
+		return live.Filter{}, api.ErrNode
+	}
+	f, err := live.NewFilter(show, rules)
+	if err != api.OK {
+		return live.Filter{}, err
+	}
+	if count >= api.MaxThings {
+		return live.Filter{}, api.ErrFull
+	}
+	return f, api.OK
 }
 
 // Step steps an iterator (P8).
@@ -215,13 +226,42 @@ func (g *Grove) At(iter int) (int, bool, api.Errno) {
 }
 
 // Walker makes a walker (P9).
-func (g *Grove) Walker(root int, show int, rules []api.Rule) (int, api.Errno) { return 0, api.OK }
+func (g *Grove) Walker(root int, show int, rules []api.Rule) (int, api.Errno) {
+	f, err := g.mayFilter(root, show, rules, len(g.walkers))
+	if err != api.OK {
+		return 0, err
+	}
+	g.walkers = append(g.walkers, live.NewWalker(root, f))
+	return len(g.walkers), api.OK
+}
 
 // Move moves a walker (P9).
-func (g *Grove) Move(walker int, how int) (int, api.Errno) { return 0, api.OK }
+func (g *Grove) Move(walker int, how int) (int, api.Errno) {
+	w := numbered(g.walkers, walker)
+	if w == nil {
+		return 0, api.ErrThing
+	}
+	return w.Move(&g.forest, how)
+}
 
 // Here tells where a walker is (P9).
-func (g *Grove) Here(walker int) (int, api.Errno) { return 0, api.OK }
+func (g *Grove) Here(walker int) (int, api.Errno) {
+	w := numbered(g.walkers, walker)
+	if w == nil {
+		return 0, api.ErrThing
+	}
+	return w.Here(), api.OK
+}
 
 // Go sets a walker somewhere (P9).
-func (g *Grove) Go(walker int, node int) api.Errno { return api.OK }
+func (g *Grove) Go(walker int, node int) api.Errno {
+	w := numbered(g.walkers, walker)
+	if w == nil {
+		return api.ErrThing
+	}
+	if !g.forest.Has(node) {
+		return api.ErrNode
+	}
+	w.Go(node)
+	return api.OK
+}

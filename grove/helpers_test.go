@@ -74,9 +74,9 @@ func wantParent(t *testing.T, g *grove.Grove, node, want int) {
 	}
 }
 
-// shape tells all that looks can see of the trees, of the lists and of the
-// iterators, and how many there are; of attributes, by the names and ids x
-// and y.
+// shape tells all that looks can see of the trees, of the lists, of the
+// iterators and of the walkers, and how many there are; of attributes, by the
+// names and ids x and y.
 func shape(g *grove.Grove) string {
 	var b strings.Builder
 	for n := 0; ; n++ {
@@ -102,6 +102,13 @@ func shape(g *grove.Grove) string {
 		n, ahead, err := g.At(i)
 		fmt.Fprintln(&b, "iterator", i, n, ahead, err)
 		if i > 0 && err != api.OK {
+			break
+		}
+	}
+	for w := 0; ; w++ {
+		n, err := g.Here(w)
+		fmt.Fprintln(&b, "walker", w, n, err)
+		if w > 0 && err != api.OK {
 			return b.String()
 		}
 	}

@@ -175,55 +175,58 @@ func TestStepsSeeWhatHasBeenPut(t *testing.T) {
 	wantBack(t, g, 1, 3, 2, 4, 1, 0)
 }
 
-// P8
-func TestIterErrors(t *testing.T) {
-	g := plant(t, "a /")
+// wantFilters holds an Iter, or Walker, of a grove with two nodes against what
+// P8 says of its errors, and of those filters that may just be.
+func wantFilters(t *testing.T, want func(root, show int, rules []api.Rule, n int, err api.Errno)) {
+	t.Helper()
 	ok := api.Rule{Name: "abcdefgh", Verdict: api.Skip}
 	wrong := []api.Rule{ok, {}}
 	many := slices.Repeat(wrong, 6)
 	for _, n := range []int{0, -1, 3, 301, math.MinInt, math.MaxInt} {
-		wantIter(t, g, n, -1, many, 0, api.ErrNode)
+		want(n, -1, many, 0, api.ErrNode)
 	}
 	for _, show := range []int{-1, 31, 32, 1 << 40, math.MinInt, math.MaxInt} {
-		wantIter(t, g, 1, show, many, 0, api.ErrKind)
+		want(1, show, many, 0, api.ErrKind)
 	}
-	wantIter(t, g, 1, allKinds, slices.Repeat([]api.Rule{ok}, 11), 0, api.ErrLong)
-	wantIter(t, g, 1, allKinds, many[:11], 0, api.ErrLong)
-	wantIter(t, g, 1, allKinds, many[:10], 0, api.ErrRule)
+	want(1, allKinds, slices.Repeat([]api.Rule{ok}, 11), 0, api.ErrLong)
+	want(1, allKinds, many[:11], 0, api.ErrLong)
+	want(1, allKinds, many[:10], 0, api.ErrRule)
 	for _, name := range []string{"", "A", "abcdefghi", "a b", "*", "é", strings.Repeat("x", 1000)} {
 		for verdict := api.Accept; verdict <= api.Skip; verdict++ {
-			wantIter(t, g, 1, 0, []api.Rule{ok, {Name: name, Verdict: verdict}}, 0, api.ErrRule)
+			want(1, 0, []api.Rule{ok, {Name: name, Verdict: verdict}}, 0, api.ErrRule)
 		}
 	}
 	for _, verdict := range []int{0, -1, 4, math.MinInt, math.MaxInt} {
-		wantIter(t, g, 1, 0, []api.Rule{{Name: "a", Verdict: verdict}, ok}, 0, api.ErrRule)
+		want(1, 0, []api.Rule{{Name: "a", Verdict: verdict}, ok}, 0, api.ErrRule)
 	}
-	// None of these made an iterator.
-	wantIter(t, g, 1, 0, nil, 1, api.OK)
-	wantIter(t, g, 2, allKinds, []api.Rule{}, 2, api.OK)
-	wantIter(t, g, 1, 1, slices.Repeat([]api.Rule{ok}, 10), 3, api.OK)
+	// None of these made one.
+	want(1, 0, nil, 1, api.OK)
+	want(2, allKinds, []api.Rule{}, 2, api.OK)
+	want(1, 1, slices.Repeat([]api.Rule{ok}, 10), 3, api.OK)
+	for n := 4; n <= api.MaxThings; n++ {
+		want(1+n%2, allKinds, nil, n, api.OK)
+	}
+	want(1, allKinds, nil, 0, api.ErrFull)
+	// P1: what is named ahead of it comes first.
+	want(3, 31, many, 0, api.ErrNode)
+	want(1, 31, many, 0, api.ErrKind)
+	want(1, 30, many, 0, api.ErrLong)
+	want(1, 30, wrong, 0, api.ErrRule)
 }
 
-// P8
-func TestIterUntilFull(t *testing.T) {
-	g := plant(t, "a b")
-	under(t, g, 1, 2)
-	// Lists are counted apart.
+// P8: lists and walkers are counted apart.
+func TestIterErrors(t *testing.T) {
+	g := plant(t, "a /")
 	for n := 1; n <= api.MaxThings; n++ {
 		wantWatch(t, g, 1, api.Nodes, "", n, api.OK)
+		wantWalker(t, g, 1, allKinds, nil, n, api.OK)
 	}
-	for n := 1; n <= api.MaxThings; n++ {
-		wantIter(t, g, 1+n%2, allKinds, nil, n, api.OK)
-	}
-	wantIter(t, g, 1, allKinds, nil, 0, api.ErrFull)
-	// P1: what is named ahead of it comes first.
-	many := make([]api.Rule, 11)
-	wantIter(t, g, 3, 31, many, 0, api.ErrNode)
-	wantIter(t, g, 1, 31, many, 0, api.ErrKind)
-	wantIter(t, g, 1, 30, many, 0, api.ErrLong)
-	wantIter(t, g, 1, 30, many[:1], 0, api.ErrRule)
+	wantFilters(t, func(root, show int, rules []api.Rule, n int, err api.Errno) {
+		t.Helper()
+		wantIter(t, g, root, show, rules, n, err)
+	})
 	wantOn(t, g, 49, 2, 0)
-	wantOn(t, g, 50, 1, 2, 0)
+	wantOn(t, g, 50, 1, 0)
 	wantAt(t, g, 48, 1, true)
 }
 

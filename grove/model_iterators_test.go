@@ -9,24 +9,35 @@ import (
 	"grove/api"
 )
 
+// sieve is a filter of the model.
+type sieve struct {
+	show  int
+	rules []api.Rule
+}
+
 // walked is an iterator of the model.
 type walked struct {
-	root, show int
-	rules      []api.Rule
-	place      int
-	ahead      bool
+	sieve
+	root  int
+	place int
+	ahead bool
 }
 
 // all is all that is within a node, in the order of the tree.
 func (m *model) all(n int) []int { return append([]int{n}, m.under(n)...) }
 
-func (m *model) accepts(w *walked, n int) bool {
-	if w.show&(1<<kindOf(m.word[n])) == 0 {
-		return false
+func (m *model) verdict(s sieve, n int) int {
+	if s.show&(1<<kindOf(m.word[n])) == 0 {
+		return api.Skip
 	}
-	i := slices.IndexFunc(w.rules, func(r api.Rule) bool { return m.isElement(n) && r.Name == m.word[n] })
-	return i < 0 || w.rules[i].Verdict == api.Accept
+	i := slices.IndexFunc(s.rules, func(r api.Rule) bool { return m.isElement(n) && r.Name == m.word[n] })
+	if i < 0 {
+		return api.Accept
+	}
+	return s.rules[i].Verdict
 }
+
+func (m *model) accepts(s sieve, n int) bool { return m.verdict(s, n) == api.Accept }
 
 // step takes the iterator for a gap in the list of all that is within its root.
 func (m *model) step(w *walked, back bool) int {
@@ -41,7 +52,7 @@ func (m *model) step(w *walked, back bool) int {
 		slices.Reverse(l)
 	}
 	for _, n := range l {
-		if m.accepts(w, n) {
+		if m.accepts(w.sieve, n) {
 			w.place, w.ahead = n, back
 			return n
 		}
@@ -67,19 +78,22 @@ func (m *model) leave(w *walked, taken int) {
 	}
 }
 
+func drawnSieve(r *rand.Rand) sieve {
+	s := sieve{show: api.MaxShow}
+	if r.Intn(3) == 0 {
+		s.show = r.Intn(api.MaxShow + 1)
+	}
+	for range r.Intn(4) {
+		s.rules = append(s.rules, api.Rule{Name: []string{"a", "b", "c", "d"}[r.Intn(4)], Verdict: api.Accept + r.Intn(3)})
+	}
+	return s
+}
+
 func drawnIterators(r *rand.Rand, nodes int) []*walked {
 	l := make([]*walked, 6)
 	for i := range l {
 		root := 1 + r.Intn(nodes)
-		show := api.MaxShow
-		if r.Intn(3) == 0 {
-			show = r.Intn(api.MaxShow + 1)
-		}
-		var rules []api.Rule
-		for range r.Intn(4) {
-			rules = append(rules, api.Rule{Name: []string{"a", "b", "c", "d"}[r.Intn(4)], Verdict: api.Accept + r.Intn(3)})
-		}
-		l[i] = &walked{root, show, rules, root, true}
+		l[i] = &walked{drawnSieve(r), root, root, true}
 	}
 	return l
 }
@@ -102,13 +116,7 @@ func TestDrawnIteratorsAgainstModel(t *testing.T) {
 			for i, w := range m.iterators {
 				places[i] = w.place
 			}
-			node, p := r.Intn(n+2), r.Intn(n+2)
-			if r.Intn(6) == 0 {
-				wantTake(t, g, node, m.take(node))
-			} else {
-				before := append(slices.Clone(m.kids[p]), 0, 0)[r.Intn(len(m.kids[p])+2)]
-				wantPut(t, g, p, node, before, m.put(p, node, before))
-			}
+			wantDrawnChange(t, r, g, m, n)
 			for i, w := range m.iterators {
 				wantAt(t, g, i+1, w.place, w.ahead)
 				if w.place != places[i] {

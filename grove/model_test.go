@@ -7,6 +7,7 @@ import (
 	"testing"
 
 	"grove/api"
+	"grove/grove"
 )
 
 // model is the document's words on trees and what looks at them, done by looks
@@ -85,6 +86,19 @@ func (m *model) take(node int) api.Errno {
 	}
 	m.kids[p] = slices.DeleteFunc(m.kids[p], func(k int) bool { return k == node })
 	return api.OK
+}
+
+// wantDrawnChange takes or puts a node, the same in the grove and in the model,
+// of n nodes; wrong ones too.
+func wantDrawnChange(t *testing.T, r *rand.Rand, g *grove.Grove, m *model, n int) {
+	t.Helper()
+	node, p := r.Intn(n+2), r.Intn(n+2)
+	if r.Intn(6) == 0 {
+		wantTake(t, g, node, m.take(node))
+		return
+	}
+	before := append(slices.Clone(m.kids[p]), 0, 0)[r.Intn(len(m.kids[p])+2)]
+	wantPut(t, g, p, node, before, m.put(p, node, before))
 }
 
 // P1, P4 and P5: long runs of drawn calls, wrong ones too, against the model.

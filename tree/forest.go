@@ -90,6 +90,12 @@ func (f *Forest) Parent(n int) int { return f.nodes[n].parent }
 // First tells a node's first kid, 0 if it has none.
 func (f *Forest) First(n int) int { return f.nodes[n].first }
 
+// Last tells a node's last kid, 0 if it has none.
+func (f *Forest) Last(n int) int { return f.nodes[n].last }
+
+// Ahead tells the kid directly ahead of this one, 0 if there is none.
+func (f *Forest) Ahead(n int) int { return f.nodes[n].ahead }
+
 // Behind tells the kid directly behind this one, 0 if there is none.
 func (f *Forest) Behind(n int) int { return f.nodes[n].behind }
 
@@ -102,8 +108,8 @@ func (f *Forest) Kids(n int) []int {
 	return kids
 }
 
-// Next tells what stands behind n in the order of the tree, of what is within
-// top, as n is; 0 if nothing does.
+// Next tells what stands behind n in the order of the tree; 0 if nothing does,
+// or if top is come to on the way up from n, which may be outside of it.
 func (f *Forest) Next(n, top int) int {
 	if k := f.First(n); k != 0 {
 		return k
@@ -111,10 +117,11 @@ func (f *Forest) Next(n, top int) int {
 	return f.Past(n, top)
 }
 
-// Past tells what stands behind all that is within n in the order of the tree,
-// of what is within top, as n is; 0 if nothing does.
+// Past tells what stands behind all that is within n in the order of the tree;
+// 0 if nothing does, or if top is come to on the way up from n, which may be
+// outside of it.
 func (f *Forest) Past(n, top int) int {
-	for n != top {
+	for n != 0 && n != top {
 		if b := f.Behind(n); b != 0 {
 			return b
 		}
@@ -129,11 +136,11 @@ func (f *Forest) Previous(n, top int) int {
 	if n == top {
 		return 0
 	}
-	a := f.nodes[n].ahead
+	a := f.Ahead(n)
 	if a == 0 {
 		return f.Parent(n)
 	}
-	for k := a; k != 0; k = f.nodes[k].last {
+	for k := a; k != 0; k = f.Last(k) {
 		a = k
 	}
 	return a
@@ -173,9 +180,9 @@ func (f *Forest) Within(n, top int) bool {
 // Insert puts child, which stands nowhere, under parent: just ahead of
 // before, which stands there, or behind all others if that is 0.
 func (f *Forest) Insert(parent, child, before int) {
-	ahead := f.nodes[parent].last
+	ahead := f.Last(parent)
 	if before != 0 {
-		ahead = f.nodes[before].ahead
+		ahead = f.Ahead(before)
 	}
 	f.nodes[child].parent = parent
 	f.join(parent, ahead, child)

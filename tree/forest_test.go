@@ -33,7 +33,7 @@ func wantChain(t *testing.T, f *Forest, parent int, want ...int) {
 		t.Errorf("Kids(%d) = %v, want %v", parent, kids, want)
 	}
 	var back []int
-	for k := f.nodes[parent].last; k != 0; k = f.nodes[k].ahead {
+	for k := f.Last(parent); k != 0; k = f.Ahead(k) {
 		back = append(back, k)
 	}
 	slices.Reverse(back)
@@ -128,6 +128,8 @@ func TestNextStaysWithinTheTop(t *testing.T) {
 	for _, c := range []struct{ n, top, want int }{
 		{1, 1, 2}, {2, 1, 5}, {5, 1, 4}, {4, 1, 3}, {3, 1, 6}, {6, 1, 0},
 		{4, 5, 0}, {4, 4, 0}, {3, 2, 0}, {2, 2, 5}, {7, 7, 0},
+		// from outside of the top
+		{3, 5, 6}, {1, 2, 2}, {6, 2, 0}, {6, 7, 0}, {7, 1, 0},
 	} {
 		if n := f.Next(c.n, c.top); n != c.want {
 			t.Errorf("Next(%d, %d) = %d, want %d", c.n, c.top, n, c.want)
@@ -140,6 +142,8 @@ func TestPastIsBehindAllThatIsWithin(t *testing.T) {
 	for _, c := range []struct{ n, top, want int }{
 		{1, 1, 0}, {2, 1, 6}, {5, 1, 3}, {4, 1, 3}, {3, 1, 6}, {6, 1, 0},
 		{5, 2, 3}, {3, 2, 0}, {2, 2, 0}, {5, 5, 0}, {4, 5, 0}, {7, 7, 0},
+		// from outside of the top
+		{3, 5, 6}, {1, 2, 0}, {6, 2, 0}, {6, 7, 0}, {7, 1, 0},
 	} {
 		if n := f.Past(c.n, c.top); n != c.want {
 			t.Errorf("Past(%d, %d) = %d, want %d", c.n, c.top, n, c.want)
